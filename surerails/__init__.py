@@ -1,0 +1,1 @@
+"""Surerails: a railway worked by what each signal box surely knows."""

@@ -1,0 +1,68 @@
+"""Closed cuts of a record, and the books of its moments."""
+
+from surerails.cuts import Cut
+from surerails.errors import BadCut, BadReading
+
+
+def is_closed(record, cut):
+    """Tells whether all that the cut has heard of stands in it."""
+    return closure_of(record, cut) == cut
+
+
+def closure_of(record, cut):
+    """Gives the least closed cut that the cut is within."""
+    _check_cut(record, cut)
+    return Cut(_closed_heights(record, list(cut)))
+
+
+def book_of(record, box, reading):
+    """Gives the least closed cut that holds the moment."""
+    return books_together(record, [(box, reading)])
+
+
+def books_together(record, moments):
+    """Gives the least closed cut that holds all of the moments."""
+    heights = [-1 for _ in range(record.line.size)]
+    for box, reading in moments:
+        check_moment(record, box, reading)
+        heights[box] = max(heights[box], reading)
+    return Cut(_closed_heights(record, heights))
+
+
+def check_moment(record, box, reading):
+    """Raises NoBox or BadReading if the record has no such moment."""
+    height = record.height(box)
+    if not 0 <= reading <= height:
+        raise BadReading(box, reading)
+
+
+def events_in(record, cut):
+    """Lists the seen events that stand in the cut, ascending."""
+    return [event for event, reading in record.seen() if (record.working.box_of(event), reading) in cut]
+
+
+def _check_cut(record, cut):
+    heights = list(cut)
+    for box in range(record.line.size):
+        if box >= len(heights) or not -1 <= heights[box] <= record.height(box):
+            raise BadCut(box)
+    if len(heights) > record.line.size:
+        raise BadCut(record.line.size)
+
+
+def _closed_heights(record, heights):
+    """Raises the heights until all letters that came and rides that happened have their beginning in them."""
+    closed = list(heights)
+    # The pulls of each box are ascending: those below its count are done and need no second look.
+    done = [0 for _ in closed]
+    grown = True
+    while grown:
+        grown = False
+        for box, pulls in enumerate(record.pulls):
+            while done[box] < len(pulls) and pulls[done[box]][0] <= closed[box]:
+                _, source, sent = pulls[done[box]]
+                done[box] += 1
+                if sent > closed[source]:
+                    closed[source] = sent
+                    grown = True
+    return closed

@@ -1,0 +1,60 @@
+"""The interface: each name in its file, with its arguments, and each method in its own class."""
+
+import importlib
+import inspect
+import unittest
+
+FUNCTIONS = {
+    "lags": ["lag(line, source, target, *, late=False)", "lag_way(line, source, target, *, late=False)",
+             "round_trip(line, box)"],
+    "workings": ["bounded_chain(working, event)"],
+    "rings": ["find_ring(working)", "is_ring(working, events)"],
+    "needs": ["hours_between(working, first, second)", "needed_demands(working)", "thinned(working)"],
+    "translation": ["working_of(plan)"],
+    "books": ["is_closed(record, cut)", "closure_of(record, cut)", "book_of(record, box, reading)",
+              "books_together(record, moments)"],
+    "hearing": ["trail_of(record, first, second)", "is_trail(record, first, second, hops)",
+                "heard_at(record, moment, box)", "letter_news(record, source, target, sent)"],
+    "bounds": ["bounds_of(record)", "is_placing(record, settings)", "broken_bounds(record, settings)"],
+}
+CLASSES = {
+    "lines.Line": ["__init__(self, size, wires, *, bounds=())", "wires(self)", "bounds(self)",
+                   "wire(self, source, target)", "sources(self, box)", "targets(self, box)"],
+    "workings.Working": ["__init__(self, line, events)", "box_of(self, event)", "kind(self, event)",
+                         "cause(self, event)", "demands(self, event)", "followers(self, event)",
+                         "events_at(self, box)", "events(self)"],
+    "trains.Train": ["__init__(self, start, tracks, rides, *, east=True, dwell=1, away=(1, 1))",
+                     "tracks(self)", "boxes(self)", "rides(self)"],
+    "plans.Plan": ["__init__(self, line, rooms, trains, track_orders, section_orders, *, clearing=1)",
+                   "train(self, number)", "event(self, train, number)", "owner(self, event)", "places(self)",
+                   "order(self, place)", "stay(self, place, train)"],
+    "cuts.Cut": ["__init__(self, heights)", "__iter__(self)", "__or__(self, other)", "__and__(self, other)",
+                 "__eq__(self, other)", "__contains__(self, moment)", "height(self, box)", "within(self, other)"],
+    "records.Record": ["__init__(self, working, heights, *, seen=(), letters=())", "heights(self)", "seen(self)",
+                       "letters(self)", "height(self, box)", "first_missing(self, source, target)",
+                       "reading(self, event)", "come(self, source, target, sent)", "part(self, cut)"],
+}
+
+
+class TestInterface(unittest.TestCase):
+
+    def test_functions(self):
+        for name, rows in FUNCTIONS.items():
+            module = importlib.import_module("surerails." + name)
+            for row in rows:
+                function = getattr(module, row.split("(")[0])
+                self.assertEqual(function.__name__ + str(inspect.signature(function)), row)
+                self.assertEqual(function.__module__, module.__name__)
+
+    def test_classes(self):
+        for path, rows in CLASSES.items():
+            module = importlib.import_module("surerails." + path.split(".")[0])
+            found = getattr(module, path.split(".")[1])
+            self.assertEqual(found.__module__, module.__name__)
+            for row in rows:
+                method = vars(found)[row.split("(")[0]]
+                self.assertEqual(method.__name__ + str(inspect.signature(method)), row)
+
+
+if __name__ == "__main__":
+    unittest.main()
