@@ -1,6 +1,6 @@
 """All errors of the program.
 
-An error that holds a list gives its text to the base class by itself: otherwise
+An error that holds a list gives texts to the base class by itself: otherwise
 Python would keep the list that was passed, which the caller may change.
 """
 
@@ -348,7 +348,7 @@ class NotUsed(RailsError):
 class CannotQuicken(RailsError):
     """The wishes of one direction cannot all be met."""
     def __init__(self, east, steps):
-        super().__init__(f"{east}, {steps}")
+        super().__init__(f"{east}", f"{steps}")
         self.east = east
         self.steps = list(steps)
 
@@ -356,7 +356,7 @@ class CannotQuicken(RailsError):
 class NoLeave(RailsError):
     """The act has no leave: a demanded event is not surely old enough."""
     def __init__(self, event, demanded, settings):
-        super().__init__(f"{event}, {demanded}, {settings}")
+        super().__init__(f"{event}", f"{demanded}", f"{settings}")
         self.event = event
         self.demanded = demanded
         self.settings = list(settings)

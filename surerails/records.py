@@ -84,10 +84,10 @@ def _checked_seen(working, heights, seen):
     """Gives the reading of each seen event, in ascending order of the events."""
     readings = {}
     for event, reading in seen:
-        check_event(working, event)
+        box = working.box_of(event)
         if event in readings:
             raise SeenTwice(event)
-        _check_reading(heights, working.box_of(event), reading)
+        _check_reading(heights, box, reading)
         readings[event] = reading
     for event in sorted(readings):
         cause = working.cause(event)

@@ -217,6 +217,15 @@ def random_hour(chance, working, settings, seen, event, hours):
     return hour + chance.randint(low, low + 3 if high is None else high)
 
 
+def random_records(chance, count, *, boxes=3):
+    """Records of runs and wild ones over lines and workings at random, about as many as the count."""
+    for _ in range(count):
+        working = random_working(chance, random_line(chance, boxes=boxes, longest=2), chance.randint(0, 6))
+        record = chance.choice([wild_record, true_record])(chance, working)
+        if record is not None:
+            yield record
+
+
 def shuffled_record(chance, working, heights, seen, came):
     entries = list(seen.items())
     letters = [letter + (come,) for letter, come in came.items()]

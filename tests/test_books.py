@@ -4,7 +4,7 @@ import itertools
 import random
 import unittest
 
-from helpers import Case, frozen, random_line, random_working, record_answers, true_record, wild_record
+from helpers import Case, frozen, random_records, record_answers
 from surerails.books import book_of, books_together, closure_of, is_closed
 from surerails.cuts import Cut
 from surerails.lines import Line
@@ -44,14 +44,6 @@ def least_closed(record, heights):
     least = [min(column) for column in zip(*above)]
     assert least in above
     return least
-
-
-def random_records(chance, count):
-    for _ in range(count):
-        working = random_working(chance, random_line(chance, boxes=3, longest=2), chance.randint(0, 6))
-        record = chance.choice([wild_record, true_record])(chance, working)
-        if record is not None:
-            yield record
 
 
 class TestClosedCuts(Case):

@@ -4,7 +4,7 @@ import itertools
 import random
 import unittest
 
-from helpers import Case, frozen, random_line, random_working, record_answers, true_record, wild_record
+from helpers import Case, frozen, random_line, random_records, random_working, record_answers, true_record
 from surerails.bounds import bounds_of, broken_bounds, is_placing
 from surerails.lines import Line
 from surerails.records import Record
@@ -172,14 +172,6 @@ class TestBoundsOf(Case):
         chance = random.Random(32)
         for record in random_records(chance, 50):
             self.assertEqual(bounds_of(record), sorted(bounds_of(record)))
-
-
-def random_records(chance, count):
-    for _ in range(count):
-        working = random_working(chance, random_line(chance, boxes=3, longest=2), chance.randint(0, 5))
-        record = chance.choice([wild_record, true_record])(chance, working)
-        if record is not None:
-            yield record
 
 
 class TestPlacings(Case):

@@ -1,5 +1,6 @@
 """Point 4: the errors."""
 
+import copy
 import inspect
 import unittest
 
@@ -73,6 +74,12 @@ class TestErrors(Case):
                 self.assertEqual(getattr(error, attribute), expected)
                 self.assertIs(type(getattr(error, attribute)), list)
                 self.assertEqual(str(error), text)
+
+    def test_an_error_can_be_copied(self):
+        for name, attributes in ATTRIBUTES.items():
+            with self.subTest(name):
+                error = copy.copy(getattr(errors, name)(*values_for(name)))
+                self.assertEqual([getattr(error, attribute) for attribute in attributes], values_for(name))
 
     def test_no_placing_takes_none(self):
         error = errors.NoPlacing(None, None)

@@ -4,7 +4,7 @@ import itertools
 import random
 import unittest
 
-from helpers import Case, frozen, random_line, random_working, record_answers, true_record, wild_record
+from helpers import Case, frozen, random_records, record_answers
 from surerails.books import book_of
 from surerails.hearing import heard_at, is_trail, letter_news, trail_of
 from surerails.lines import Line
@@ -48,14 +48,6 @@ def fewest_hops(record, first):
             if left in fewest and fewest[left] + cost < fewest.get(reached, 10 ** 6):
                 fewest[reached] = fewest[left] + cost
     return fewest
-
-
-def random_records(chance, count, *, kinds=(wild_record, true_record)):
-    for _ in range(count):
-        working = random_working(chance, random_line(chance, longest=2), chance.randint(0, 6))
-        record = chance.choice(kinds)(chance, working)
-        if record is not None:
-            yield record
 
 
 class TestTrails(Case):
@@ -112,7 +104,7 @@ class TestTrails(Case):
 
     def test_against_all_moments(self):
         chance = random.Random(28)
-        for record in random_records(chance, 60):
+        for record in random_records(chance, 60, boxes=4):
             for first in chance.sample(moments_of(record), min(5, len(moments_of(record)))):
                 fewest = fewest_hops(record, first)
                 for second in moments_of(record):
@@ -151,7 +143,7 @@ class TestTrails(Case):
     def test_random_lists_of_hops(self):
         chance = random.Random(29)
         found = 0
-        for record in random_records(chance, 60):
+        for record in random_records(chance, 60, boxes=4):
             hops = list(steps_of(record)) + [("ride", 0)]
             for _ in range(60):
                 row = [chance.choice(hops) for _ in range(chance.randint(0, 3))]
@@ -189,7 +181,7 @@ class TestHeardAt(Case):
 
     def test_against_the_books(self):
         chance = random.Random(30)
-        for record in random_records(chance, 60):
+        for record in random_records(chance, 60, boxes=4):
             for moment in chance.sample(moments_of(record), min(5, len(moments_of(record)))):
                 for box, height in enumerate(record.heights()):
                     readings = [at for at in range(height + 1) if moment in book_of(record, box, at)]
@@ -232,7 +224,7 @@ class TestLetterNews(Case):
     def test_against_the_books(self):
         chance = random.Random(31)
         fresh = 0
-        for record in random_records(chance, 150):
+        for record in random_records(chance, 150, boxes=4):
             for source, target, sent, come in record.letters():
                 told = book_of(record, source, sent)
                 known = book_of(record, target, come - 1) if come else ()

@@ -3,10 +3,7 @@
 import random
 import unittest
 
-from helpers import (
-    Case, frozen, line_answers, random_line, random_working, record_answers, spoil, true_record, wild_record,
-    working_answers,
-)
+from helpers import Case, frozen, line_answers, random_records, record_answers, spoil, working_answers
 from surerails.books import closure_of, is_closed
 from surerails.cuts import Cut
 from surerails.lines import Line
@@ -148,6 +145,12 @@ class TestWrongRecord(Case):
         self.refuses("CauseMissing", (1,), lambda: seeing((3, 3), (1, 3), (2, 0)))
         self.assertEqual(seeing((1, 3), (0, 1)).seen(), [(0, 1), (1, 3)])
 
+    def test_the_least_ride_whose_cause_is_not_seen(self):
+        working = Working(LINE, [("free", 0), ("ride", 0, 0, 1, 1), ("free", 0), ("ride", 0, 2, 1, 1)])
+        for seen in ([(3, 5), (1, 5)], [(1, 5), (3, 5)]):
+            self.refuses("CauseMissing", (1,), lambda: Record(working, HEIGHTS, seen=seen))
+        self.refuses("CauseMissing", (3,), lambda: Record(working, HEIGHTS, seen=[(3, 5), (1, 5), (0, 4)]))
+
     def test_an_act_needs_no_demanded_event(self):
         self.assertEqual(seeing((2, 0)).seen(), [(2, 0)])
 
@@ -224,11 +227,8 @@ class TestPart(Case):
     def test_random_parts(self):
         chance = random.Random(25)
         parts = 0
-        for _ in range(200):
-            working = random_working(chance, random_line(chance), chance.randint(0, 6))
-            whole = chance.choice([wild_record, true_record])(chance, working)
-            if whole is None:
-                continue
+        for whole in random_records(chance, 200, boxes=4):
+            working = whole.working
             cut = Cut([chance.randint(-1, height) for height in whole.heights()])
             greater = [box for box in range(working.line.size) if closure_of(whole, cut).height(box) > cut.height(box)]
             if greater:
