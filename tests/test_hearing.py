@@ -1,6 +1,5 @@
 """Points 27 and 28: trails, and when something is heard of."""
 
-import itertools
 import random
 import unittest
 
