@@ -4,6 +4,37 @@ from surerails.cuts import Cut
 from surerails.errors import BadCut, BadReading
 
 
+class Growth:
+    """A closed cut of a record that grows; it begins with nothing."""
+
+    def __init__(self, record):
+        self._pulls = record.pulls
+        self._heights = [-1 for _ in record.pulls]
+        # The pulls of each box are ascending: those below its count are done and need no second look.
+        self._done = [0 for _ in record.pulls]
+
+    def heights(self):
+        """Lists the heights of the cut."""
+        return list(self._heights)
+
+    def hold(self, box, reading):
+        """Makes it the least closed cut that holds the moment and what it held before."""
+        rising = [(box, reading)]
+        while rising:
+            goal, least = rising.pop()
+            if least > self._heights[goal]:
+                self._heights[goal] = least
+                rising.extend(self._pulled(goal))
+
+    def _pulled(self, box):
+        """Lists the moments of which the box has come to know with its present height."""
+        pulls = self._pulls[box]
+        begin = self._done[box]
+        while self._done[box] < len(pulls) and pulls[self._done[box]][0] <= self._heights[box]:
+            self._done[box] += 1
+        return [(source, sent) for _, source, sent in pulls[begin:self._done[box]]]
+
+
 def is_closed(record, cut):
     """Tells whether all that the cut has heard of stands in it."""
     return closure_of(record, cut) == cut
@@ -51,18 +82,7 @@ def _check_cut(record, cut):
 
 
 def _closed_heights(record, heights):
-    """Raises the heights until all letters that came and rides that happened have their beginning in them."""
-    closed = list(heights)
-    # The pulls of each box are ascending: those below its count are done and need no second look.
-    done = [0 for _ in closed]
-    grown = True
-    while grown:
-        grown = False
-        for box, pulls in enumerate(record.pulls):
-            while done[box] < len(pulls) and pulls[done[box]][0] <= closed[box]:
-                _, source, sent = pulls[done[box]]
-                done[box] += 1
-                if sent > closed[source]:
-                    closed[source] = sent
-                    grown = True
-    return closed
+    growth = Growth(record)
+    for box, height in enumerate(heights):
+        growth.hold(box, height)
+    return growth.heights()

@@ -1,15 +1,12 @@
 """The bounds that a record gives for the settings of the clocks."""
 
-from surerails.errors import BadSettings
+from surerails.checks import check_settings
 from surerails.workings import bounded_chain
 
 
 def bounds_of(record):
     """Lists all bounds (later, earlier, most, reason) of the record, ascending."""
-    return sorted(
-        _told_bounds(record) + _letter_bounds(record) + _silence_bounds(record)
-        + _ride_bounds(record) + _awaited_bounds(record)
-    )
+    return sorted(gathered_bounds(record))
 
 
 def is_placing(record, settings):
@@ -19,13 +16,19 @@ def is_placing(record, settings):
 
 def broken_bounds(record, settings):
     """Lists the bounds that the settings do not keep, ascending."""
-    size = record.line.size
-    if len(settings) != size:
-        raise BadSettings(min(len(settings), size))
+    check_settings(record.line, settings)
     return [
         (later, earlier, most, reason) for later, earlier, most, reason in bounds_of(record)
         if settings[later] - settings[earlier] > most
     ]
+
+
+def gathered_bounds(record):
+    """Lists all bounds of the record in any order."""
+    return (
+        _told_bounds(record) + _letter_bounds(record) + _silence_bounds(record)
+        + _ride_bounds(record) + _awaited_bounds(record)
+    )
 
 
 def seen_ancestor(record, event):
@@ -41,9 +44,10 @@ def _told_bounds(record):
 
 
 def _letter_bounds(record):
+    spans = {(source, target): (low, high) for source, target, low, high in record.line.wires()}
     found = []
     for source, target, sent, come in record.letters():
-        low, high = record.line.wire(source, target)
+        low, high = spans[source, target]
         found.append((source, target, come - sent - low, ("early", source, target, sent)))
         if high is not None:
             found.append((target, source, sent + high - come, ("late", source, target, sent)))

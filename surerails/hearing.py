@@ -1,6 +1,6 @@
 """How what happens at one box is heard of at another one."""
 
-from surerails.books import book_of, check_moment, events_in
+from surerails.books import Growth, book_of, check_moment, events_in
 from surerails.errors import NotCome
 from surerails.lines import check_box
 
@@ -52,6 +52,20 @@ def letter_news(record, source, target, sent):
         return told
     known = events_in(record, book_of(record, target, come - 1))
     return [event for event in told if event not in known]
+
+
+def events_heard(record, box):
+    """Gives for each event of which the box has heard the least reading of the box whose book holds it."""
+    growth = Growth(record)
+    moments = {event: (record.working.box_of(event), reading) for event, reading in record.seen()}
+    heard = {}
+    for reading in range(record.height(box) + 1):
+        growth.hold(box, reading)
+        heights = growth.heights()
+        for event, (place, at) in moments.items():
+            if event not in heard and at <= heights[place]:
+                heard[event] = reading
+    return heard
 
 
 def _ends_by_hop(record):

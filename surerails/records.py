@@ -62,13 +62,18 @@ class Record:
         for box in range(self.line.size):
             if closed.height(box) > cut.height(box):
                 raise NotClosed(box)
-        seen = [(event, self._readings[event]) for event in events_in(self, cut)]
-        letters = [letter for letter in self.letters() if (letter[1], letter[3]) in cut]
-        return Record(self.working, list(cut), seen=seen, letters=letters)
+        return part_with(self, cut, events_in(self, cut))
 
     def _check_wire(self, source, target):
         # The line raises the errors of a wire that is none.
         self.line.wire(source, target)
+
+
+def part_with(record, cut, events):
+    """Gives the part of the record in a closed cut, of whose events only the listed ones are seen."""
+    seen = [(event, record.reading(event)) for event in events]
+    letters = [letter for letter in record.letters() if (letter[1], letter[3]) in cut]
+    return Record(record.working, list(cut), seen=seen, letters=letters)
 
 
 def _checked_heights(line, heights):

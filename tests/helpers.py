@@ -1,13 +1,19 @@
-"""What the tests share: checks of errors, copies and time, and random lines, workings and records."""
+"""What the tests share: checks of errors, copies and time, slow searches, and random lines, records and worlds."""
 
 import contextlib
+import itertools
 import time
 import unittest
 
 from surerails import errors
+from surerails.bounds import bounds_of
+from surerails.freest import Freest
 from surerails.lines import Line
 from surerails.records import Record
+from surerails.rules import Both, Either, Honest
+from surerails.tables import Table
 from surerails.workings import Working
+from surerails.worlds import World
 
 ATTRIBUTES = {
     "NothingToUndo": (), "NothingToRedo": (), "BadSize": ("size",), "NoBox": ("box",),
@@ -40,6 +46,45 @@ class Case(unittest.TestCase):
         self.assertIsInstance(error, errors.RailsError)
         self.assertEqual(tuple(getattr(error, attribute) for attribute in ATTRIBUTES[name]), values)
 
+    def refuses_as_impossible(self, record, call):
+        """The call raises Impossible with a bad ring of the record, in a list that only the error has."""
+        rings = []
+        for _ in range(2):
+            with self.assertRaises(ValueError) as caught:
+                call()
+            self.assertIs(type(caught.exception), errors.Impossible)
+            self.assertIsInstance(caught.exception, errors.RailsError)
+            self.bad_ring(record, caught.exception.ring)
+            rings.append(frozen(caught.exception.ring))
+            spoil(caught.exception.ring)
+        self.assertEqual(rings[0], rings[1])
+
+    def bad_ring(self, record, ring):
+        """Point 32 to the letter: the list is a bad ring of the record."""
+        self.assertIs(type(ring), list)
+        self.assertTrue(ring)
+        self.assertLess(self.length_of_way(record, ring, ring[0][1], ring[0][1]), 0)
+        earlier = [bound[1] for bound in ring]
+        self.assertEqual(len(earlier), len(set(earlier)))
+
+    def length_of_way(self, record, way, first, second):
+        """Point 32 to the letter: the list is a way of bounds from the first box to the second; gives its length."""
+        self.assertIs(type(way), list)
+        bounds = bounds_of(record)
+        box = first
+        for bound in way:
+            self.assertIn(bound, bounds)
+            self.assertEqual(bound[1], box)
+            box = bound[0]
+        self.assertEqual(box, second)
+        return sum(bound[2] for bound in way)
+
+    def placing(self, record, settings):
+        """Point 31 to the letter: the list is a placing of the record."""
+        self.assertIs(type(settings), list)
+        self.assertEqual(len(settings), record.line.size)
+        self.assertTrue(keeps_all(bounds_of(record), settings), settings)
+
     def same_after_spoiling(self, answers):
         """What a call returns may be spoilt by the caller: the next call returns the same."""
         first = answers()
@@ -68,6 +113,45 @@ def spoil(value):
             spoil(item)
     if isinstance(value, list):
         value[:] = ["rubbish"]
+
+
+def keeps_all(bounds, settings):
+    return all(settings[later] - settings[earlier] <= most for later, earlier, most, _ in bounds)
+
+
+def small_placings(record, *, width=20):
+    """The placings in which the box 0 has the setting 0 and no other setting is further off than the width."""
+    bounds = least_bounds(record)
+    others = [range(-width, width + 1)] * (record.line.size - 1)
+    return [settings for settings in itertools.product([0], *others) if keeps_all(bounds, settings)]
+
+
+def least_over(rows, number):
+    """The least number over the placings of a width of 24, or None if it can be as small as one likes."""
+    least = min(number(settings) for settings in rows)
+    near = min(number(settings) for settings in rows if max(map(abs, settings)) <= 20)
+    return least if least == near else None
+
+
+def least_bounds(record):
+    """For each two boxes the bound with the least number."""
+    least = {}
+    for bound in bounds_of(record):
+        least.setdefault(bound[:2], bound)
+    return list(least.values())
+
+
+def distances(record):
+    """The least length of a way of bounds for each pair (first, second) that has one; None if there is a bad ring."""
+    boxes = range(record.line.size)
+    lengths = {(box, box): 0 for box in boxes}
+    for later, earlier, most, _ in bounds_of(record):
+        lengths[earlier, later] = min(most, lengths.get((earlier, later), most))
+    for middle, first, second in itertools.product(boxes, repeat=3):
+        if (first, middle) in lengths and (middle, second) in lengths:
+            length = lengths[first, middle] + lengths[middle, second]
+            lengths[first, second] = min(length, lengths.get((first, second), length))
+    return None if any(lengths[box, box] < 0 for box in boxes) else lengths
 
 
 def line_answers(line):
@@ -118,6 +202,15 @@ def record_answers(record):
     ]
 
 
+def table_answers(table):
+    events = range(table.working.size)
+    return [working_answers(table.working), table.rows(), [table.rows_of(event) for event in events]]
+
+
+def world_answers(world):
+    return [working_answers(world.working), world.settings(), world.whims(), world.lates()]
+
+
 def random_line(chance, *, boxes=4, longest=4, tight=False):
     """A line; a tight one has no unbounded wires."""
     size = chance.randint(1, boxes)
@@ -132,11 +225,11 @@ def random_line(chance, *, boxes=4, longest=4, tight=False):
     return Line(size, wires, bounds=bounds)
 
 
-def random_working(chance, line, count, *, rings=False):
+def random_working(chance, line, count, *, rings=False, kinds=("free", "ride", "ride", "act")):
     """A working; without rings each act demands only events before it."""
     events = []
     for number in range(count):
-        kind = chance.choice(["free", "ride", "ride", "act"])
+        kind = chance.choice(kinds)
         box = chance.randrange(line.size)
         if kind == "ride" and number:
             events.append(random_ride(chance, line, events))
@@ -224,6 +317,105 @@ def random_records(chance, count, *, boxes=3):
         record = chance.choice([wild_record, true_record])(chance, working)
         if record is not None:
             yield record
+
+
+def possible_records(chance, count, *, boxes=3, events=6):
+    """Records that some run holds, about as many as the count, with many letters and with few of them."""
+    for _ in range(count):
+        working = random_working(chance, random_line(chance, boxes=boxes, longest=2), chance.randint(0, events))
+        record = true_record(chance, working)
+        if record is not None:
+            yield record
+
+
+def impossible_records(chance, count, *, boxes=3):
+    for record in random_records(chance, count, boxes=boxes):
+        if distances(record) is None:
+            yield record
+
+
+def random_table(chance, working, *, longest=4):
+    """A table with some rows for most acts."""
+    rows = []
+    for act in acts_of(working):
+        for _ in range(chance.choice([0, 1, 1, 2, 3])):
+            events = chance.sample(range(working.size), min(working.size, chance.randint(0, 3)))
+            rows.append((act, [(event, chance.randint(1, longest)) for event in events]))
+    chance.shuffle(rows)
+    return Table(working, rows)
+
+
+def random_rule(chance, working, depth):
+    """A rule in which rules stand in one another, at most so deep."""
+    kind = chance.choice([Freest, Table, Either, Both, Honest, Honest]) if depth else chance.choice([Freest, Table])
+    if kind is Freest:
+        return Freest()
+    if kind is Table:
+        return random_table(chance, working, longest=3)
+    if kind is Honest:
+        return Honest(random_rule(chance, working, depth - 1))
+    return kind(random_rule(chance, working, depth - 1), random_rule(chance, working, depth - 1))
+
+
+def acts_of(working):
+    return [event for event in range(working.size) if working.kind(event) == "act"]
+
+
+def random_world(chance, working, *, latest=6):
+    """A world, or None if the settings do not fit the line."""
+    first = chance.randint(-3, 2)
+    settings = [first + chance.randint(0, 2) for _ in range(working.line.size)]
+    whims = [random_whim(chance, working, event, latest) for event in range(working.size)]
+    lates = [
+        [random_hours(chance, low, high) for _ in range(chance.randint(1, 3))]
+        for _, _, low, high in working.line.wires()
+    ]
+    try:
+        return World(working, settings, whims, lates)
+    except (errors.BoundBroken, errors.EarlyLetter):
+        return None
+
+
+def random_whim(chance, working, event, latest):
+    link = working.cause(event)
+    if link is not None:
+        return random_hours(chance, link[1], link[2])
+    if working.kind(event) == "act":
+        return chance.choice([None, 0, 0, 0, 1, 2, 5])
+    return chance.choice([None, chance.randint(0, latest), chance.randint(0, latest)])
+
+
+def random_hours(chance, low, high):
+    if high is None:
+        return chance.choice([None, low, low + 1, low + 4])
+    return chance.randint(low, high)
+
+
+def random_worlds(chance, count, *, boxes=3, events=9, rings=False):
+    """Worlds with many wires and acts, about as many as the count."""
+    for _ in range(count):
+        size = chance.randint(1, boxes)
+        wires = []
+        for source, target in itertools.permutations(range(size), 2):
+            if chance.random() < 0.7 and len(wires) < 12:
+                low = chance.randint(1, 2)
+                wires.append((source, target, low, chance.choice([None, low, low, low + 1, low + 2])))
+        line = Line(size, wires, bounds=[(0, size - 1, 2)] if size > 1 and chance.random() < 0.3 else [])
+        working = random_working(
+            chance, line, chance.randint(1, events), rings=rings, kinds=("free", "ride", "act", "act"))
+        world = random_world(chance, working)
+        if world is not None:
+            yield world
+
+
+def kept_demands(record, settings):
+    """Whether each act that is seen has all that it demands behind it, for so long."""
+    working = record.working
+    hours = {event: settings[working.box_of(event)] + reading for event, reading in record.seen()}
+    return all(
+        event in hours and hours[event] + wait <= hours[act]
+        for act in hours for event, wait in working.demands(act)
+    )
 
 
 def shuffled_record(chance, working, heights, seen, came):

@@ -16,6 +16,23 @@ FUNCTIONS = {
     "hearing": ["trail_of(record, first, second)", "is_trail(record, first, second, hops)",
                 "heard_at(record, moment, box)", "letter_news(record, source, target, sent)"],
     "bounds": ["bounds_of(record)", "is_placing(record, settings)", "broken_bounds(record, settings)"],
+    "ways": ["widest(record, first, second)", "find_bad_ring(record)", "is_bad_ring(record, ring)",
+             "is_possible(record)"],
+    "placings": ["latest_placing(record, box, *, far=0)", "earliest_placing(record, box, *, far=0)",
+                 "placing_with(record, first, second, hours)", "ticks_left(record, box)"],
+    "continuing": ["continuation(record, settings)",
+                   "is_other_run(record, box, now, event, hours, settings)"],
+    "knowing": ["surely(record, box, now, event, hours)",
+                "is_certificate(record, box, now, event, hours, certificate)",
+                "sure_age(record, box, now, event)", "sure_from(record, box, event, hours)"],
+    "ages": ["age_span(record, box, now, event)", "hours_apart(record, first, second)"],
+    "eves": ["eve_of(record, box, reading)"],
+    "freest": ["refusal(record, now, act)"],
+    "tables": ["news_table(working)"],
+    "combining": ["covers(first, second)", "merge_tables(first, second)", "cross_tables(first, second)"],
+    "blame": ["leaves(record, rule, box, reading)", "blamed(record, rule)", "culprits(record, rule)"],
+    "driving": ["drive(world, rule, hours)"],
+    "extremes": ["earliest_hours(table)", "extreme_hours(table, event)"],
 }
 CLASSES = {
     "lines.Line": ["__init__(self, size, wires, *, bounds=())", "wires(self)", "bounds(self)",
@@ -33,6 +50,14 @@ CLASSES = {
     "records.Record": ["__init__(self, working, heights, *, seen=(), letters=())", "heights(self)", "seen(self)",
                        "letters(self)", "height(self, box)", "first_missing(self, source, target)",
                        "reading(self, event)", "come(self, source, target, sent)", "part(self, cut)"],
+    "freest.Freest": ["allows(self, record, now, act)"],
+    "tables.Table": ["__init__(self, working, rows)", "allows(self, record, now, act)", "rows(self)",
+                     "rows_of(self, act)", "with_waits(self, extras)"],
+    "rules.Either": ["__init__(self, first, second)", "allows(self, record, now, act)"],
+    "rules.Both": ["__init__(self, first, second)", "allows(self, record, now, act)"],
+    "rules.Honest": ["__init__(self, rule)", "allows(self, record, now, act)"],
+    "worlds.World": ["__init__(self, working, settings, whims, lates)", "settings(self)", "whims(self)",
+                     "lates(self)"],
 }
 
 

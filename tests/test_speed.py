@@ -3,20 +3,34 @@
 import random
 import unittest
 
-from helpers import Case, line_answers, plan_answers, record_answers, working_answers
+from helpers import Case, line_answers, plan_answers, record_answers, table_answers, working_answers, world_answers
+from surerails.ages import age_span, hours_apart
+from surerails.blame import blamed, culprits, leaves
 from surerails.books import book_of, books_together, closure_of, is_closed
 from surerails.bounds import bounds_of, broken_bounds, is_placing
+from surerails.combining import covers, cross_tables, merge_tables
+from surerails.continuing import continuation, is_other_run
 from surerails.cuts import Cut
+from surerails.driving import drive
+from surerails.eves import eve_of
+from surerails.extremes import earliest_hours, extreme_hours
+from surerails.freest import Freest, refusal
 from surerails.hearing import heard_at, is_trail, letter_news, trail_of
+from surerails.knowing import is_certificate, sure_age, sure_from, surely
 from surerails.lags import lag, lag_way, round_trip
 from surerails.lines import Line
 from surerails.needs import hours_between, needed_demands, thinned
+from surerails.placings import earliest_placing, latest_placing, placing_with, ticks_left
 from surerails.plans import Plan
 from surerails.records import Record
 from surerails.rings import find_ring, is_ring
+from surerails.rules import Both, Either, Honest
+from surerails.tables import Table, news_table
 from surerails.trains import Train
 from surerails.translation import working_of
+from surerails.ways import find_bad_ring, is_bad_ring, is_possible, widest
 from surerails.workings import Working, bounded_chain
+from surerails.worlds import World
 
 SECONDS = 3
 WIRES = [(k, (k + 1) % 6, 1, 2) for k in range(6)] + [((k + 1) % 6, k, 1, 3) for k in range(6)]
@@ -62,6 +76,44 @@ def backward_record():
                 letters.append((source, target, at, at - 1 if source == 5 and target == 0 else at))
     seen = [(event, 79 - event) for event in range(60)]
     return Record(riding_working(), [80] * 6, seen=seen, letters=letters)
+
+
+def busy_world(*, pauses=range(60)):
+    """60 events: 10 free ones, 10 rides and 40 acts that demand up to 10 events, with pauses."""
+    events = [("free", number % 6) for number in range(10)]
+    events += [("ride", (number - 9) % 6, number - 10, 3, 3 + number) for number in range(10, 20)]
+    for number in range(20, 60):
+        others = range(number - 20, number - 10)
+        events.append(("act", number % 6, [(other, 1 + other % 3) for other in others]))
+    working = Working(full_line(), events)
+    whims = [number % 7 for number in range(10)] + [3 + number for number in range(10, 20)]
+    return World(working, [0, 1, 0, 1, 0, 1], whims + [pauses[act] for act in range(20, 60)], [[2, 1]] * 12)
+
+
+def idle_world():
+    """60 acts that are allowed from the beginning and done one behind the other, each box with one an hour or so."""
+    working = Working(full_line(), [("act", number % 6, []) for number in range(60)])
+    return World(working, [0] * 6, list(range(60)), [[1, 2]] * 12)
+
+
+def full_table(working, *, wait=1):
+    """120 rows with 6 needs each."""
+    acts = [event for event in range(working.size) if working.kind(event) == "act"]
+    rows = [acts[number % len(acts)] for number in range(120)]
+    return Table(working, [(act, [((act + k) % 60, wait + k) for k in range(54, 60)]) for act in rows])
+
+
+def four_deep(table):
+    """Rules that stand in one another, and in each of them the one below it twice."""
+    rule = Either(Freest(), table)
+    for _ in range(3):
+        rule = Both(Honest(rule), Either(rule, Honest(table)))
+    return [Freest(), table, news_table(table.working), Honest(Honest(Honest(Honest(Freest())))), rule]
+
+
+def possible_record():
+    """The record of a drive: readings up to 79, and more than 900 letters."""
+    return drive(busy_world(pauses=[0] * 60), Freest(), 80)
 
 
 class TestSpeed(Case):
@@ -155,6 +207,77 @@ class TestSpeed(Case):
             second = (chance.randrange(6), chance.randint(0, 80))
             self.quick(lambda: trail_of(record, first, second), lambda: heard_at(record, first, second[0]))
             self.quick(lambda: book_of(record, *first))
+
+    def test_ways_and_placings(self):
+        for make in (possible_record, true_record, backward_record):
+            record = make()
+            self.quick(lambda: find_bad_ring(record), lambda: is_possible(record))
+            self.quick(lambda: is_bad_ring(record, bounds_of(record)[:200]))
+            self.assertIs(is_possible(record), make is not backward_record)
+        record = possible_record()
+        self.assertGreater(len(record.letters()), 900)
+        self.quick(lambda: widest(record, 0, 3), lambda: widest(record, 3, 0))
+        self.quick(lambda: latest_placing(record, 2), lambda: earliest_placing(record, 2))
+        self.quick(lambda: placing_with(record, 2, 2, 0), lambda: ticks_left(record, 4))
+
+    def test_knowing_and_ages(self):
+        record = possible_record()
+        settings = busy_world().settings()
+        self.assertIs(is_placing(record, settings), True)
+        self.quick(lambda: continuation(record, settings))
+        for event in (0, 19, 59):
+            self.quick(lambda: surely(record, 3, 80, event, 4), lambda: surely(record, 3, 80, event, 400))
+            self.quick(lambda: is_certificate(record, 3, 80, event, 0, (event, 0, bounds_of(record)[:200])))
+            self.quick(lambda: is_other_run(record, 3, 80, event, 0, settings))
+            self.quick(lambda: sure_age(record, 3, 80, event), lambda: sure_from(record, 3, event, 9))
+            self.quick(lambda: age_span(record, 3, 80, 5), lambda: hours_apart(record, 5, 19))
+        riding = Record(riding_working(), [0] * 6, seen=[(0, 0)])
+        self.quick(lambda: surely(riding, 3, 80, 59, 0), lambda: continuation(riding, [0] * 6))
+
+    def test_eves_and_leave(self):
+        for make in (possible_record, true_record, backward_record):
+            record = make()
+            self.quick(lambda: eve_of(record, 0, record.height(0)), lambda: eve_of(record, 3, 9))
+        record = possible_record()
+        for act in (20, 41, 59):
+            self.quick(lambda: Freest().allows(record, 80, act), lambda: refusal(record, 80, act))
+
+    def test_tables(self):
+        working = busy_world().working
+        table = full_table(working)
+        self.assertEqual(len(table.rows()), 120)
+        self.quick(lambda: full_table(working), lambda: table_answers(table), lambda: news_table(working))
+        self.quick(lambda: table.with_waits([9] * 60), lambda: covers(table, table.with_waits([9] * 60)))
+        self.quick(lambda: merge_tables(table, table), lambda: cross_tables(table, table))
+        backward = Record(working, [80] * 6, seen=[(0, 80)], letters=backward_record().letters())
+        for record in (possible_record(), backward):
+            for act in range(20, 60):
+                self.quick(lambda: table.allows(record, 80, act))
+
+    def test_extremes(self):
+        working = busy_world().working
+        chained = Working(full_line(), [("act", number % 6, []) for number in range(60)])
+        rows = [(act, [((act + k) % 60, 9) for k in range(1, 7)]) for act in range(59, 0, -1)] + [(0, [])]
+        for table in (full_table(working), news_table(working), Table(chained, rows + rows)):
+            self.quick(lambda: earliest_hours(table))
+            for event in (0, 19, 59):
+                self.quick(lambda: extreme_hours(table, event))
+        riding = Table(riding_working(), [])
+        self.quick(lambda: extreme_hours(riding, 59))
+
+    def test_rules_and_blame(self):
+        record = possible_record()
+        self.assertEqual(len(record.seen()), 60)
+        for rule in four_deep(full_table(record.working)):
+            self.quick(lambda: rule.allows(record, 80, 59), lambda: leaves(record, rule, 1, 70))
+            self.quick(lambda: blamed(record, rule), lambda: culprits(record, rule))
+
+    def test_drives(self):
+        for world in (busy_world(), busy_world(pauses=[0] * 60), idle_world()):
+            for wait in (1, 60):
+                for rule in four_deep(full_table(world.working, wait=wait)):
+                    self.quick(lambda: drive(world, rule, 80))
+            self.quick(lambda: world_answers(world))
 
 
 if __name__ == "__main__":
