@@ -1,7 +1,7 @@
 """What a rule says of the acts of a record: which ones it gives leave for, and which ones it blames."""
 
 from surerails.eves import eve_of
-from surerails.views import Court, seen_acts, view_of
+from surerails.views import Court, is_allowed, seen_acts, view_of
 
 
 def leaves(record, rule, box, reading):
@@ -10,7 +10,7 @@ def leaves(record, rule, box, reading):
     view = view_of(eve)
     working = record.working
     acts = [event for event in working.events_at(box) if working.kind(event) == "act" and eve.reading(event) is None]
-    return [act for act in acts if rule.judge(view, reading, act)]
+    return [act for act in acts if is_allowed(rule, view, reading, act)]
 
 
 def blamed(record, rule):
@@ -22,12 +22,12 @@ def culprits(record, rule):
     """Lists the blamed acts in whose eves no other blamed act is seen, ascending."""
     court = Court()
     acts = _blamed_by(court, record, rule)
-    return [act for act in acts if not _knows_of_another(court.eve(record, act).record, act, acts)]
+    return [act for act in acts if not _is_any_seen(court.eve(record, act).record, acts)]
 
 
 def _blamed_by(court, record, rule):
     return [act for act in seen_acts(record) if not court.was_allowed(record, rule, act)]
 
 
-def _knows_of_another(eve, act, acts):
-    return any([other != act and eve.reading(other) is not None for other in acts])
+def _is_any_seen(eve, acts):
+    return any([eve.reading(act) is not None for act in acts])

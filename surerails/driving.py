@@ -2,7 +2,7 @@
 
 from surerails.eves import eve_of
 from surerails.records import Record
-from surerails.views import Court, View
+from surerails.views import Court, View, is_allowed
 
 
 def drive(world, rule, hours):
@@ -68,7 +68,7 @@ class Course:
         if reading < 0 or not acts:
             return []
         view = View(eve_of(record, box, reading), self._court)
-        allowed = [act for act in acts if self._rule.judge(view, reading, act)]
+        allowed = [act for act in acts if is_allowed(self._rule, view, reading, act)]
         for act in allowed:
             self._leaves.setdefault(act, reading)
         return [act for act in allowed if self._leaves[act] + self._whims[act] <= reading]

@@ -2,10 +2,10 @@
 
 from surerails.checks import check_question
 from surerails.knowing import other_settings, sure_reading
-from surerails.views import view_of
+from surerails.views import Rule, view_of
 
 
-class Freest:
+class Freest(Rule):
     """The rule that allows an act if each demanded event is surely as old as its wait."""
 
     def allows(self, record, now, act):

@@ -1,10 +1,10 @@
 """Rules made of other rules."""
 
 from surerails.checks import check_question
-from surerails.views import view_of
+from surerails.views import Rule, is_allowed, view_of
 
 
-class Either:
+class Either(Rule):
     """The rule that allows an act if at least one of two rules does."""
 
     def __init__(self, first, second):
@@ -18,10 +18,10 @@ class Either:
 
     def judge(self, view, now, act):
         """Tells whether the act may be done in what is viewed."""
-        return self._first.judge(view, now, act) or self._second.judge(view, now, act)
+        return is_allowed(self._first, view, now, act) or is_allowed(self._second, view, now, act)
 
 
-class Both:
+class Both(Rule):
     """The rule that allows an act if two rules do."""
 
     def __init__(self, first, second):
@@ -35,10 +35,10 @@ class Both:
 
     def judge(self, view, now, act):
         """Tells whether the act may be done in what is viewed."""
-        return self._first.judge(view, now, act) and self._second.judge(view, now, act)
+        return is_allowed(self._first, view, now, act) and is_allowed(self._second, view, now, act)
 
 
-class Honest:
+class Honest(Rule):
     """The rule that allows an act if another rule does and has allowed all acts that were done before."""
 
     def __init__(self, rule):
@@ -51,4 +51,4 @@ class Honest:
 
     def judge(self, view, now, act):
         """Tells whether the act may be done in what is viewed."""
-        return self._rule.judge(view, now, act) and view.is_fair(self._rule)
+        return is_allowed(self._rule, view, now, act) and view.is_fair(self._rule)

@@ -2,11 +2,11 @@
 
 from surerails.checks import check_act, check_question
 from surerails.errors import BadNeed, BadWait
-from surerails.views import view_of
+from surerails.views import Rule, view_of
 from surerails.workings import check_event
 
 
-class Table:
+class Table(Rule):
     """Rows with needs; an act may be done when all needs of one of its rows are met."""
 
     def __init__(self, working, rows):

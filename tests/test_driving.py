@@ -25,6 +25,13 @@ WORLD = World(WORKING, [0, 0], [1, 2, 0], [[1], [1]])
 ALONE = Line(1, [])
 
 
+class OddReadings:
+    """A rule from elsewhere; point 45 asks of a rule nothing but its method allows."""
+
+    def allows(self, record, now, act):
+        return now % 2 == 1 and record.reading(act) is None
+
+
 def letters_by_hand(world, heights):
     """Point 51 to the letter."""
     settings = world.settings()
@@ -160,6 +167,11 @@ class TestDriving(Case):
         rule = Either(Table(working, [(0, [])]), Honest(Table(working, [(1, [])])))
         for pause, seen in ((0, [(0, 2), (1, 0)]), (2, [(0, 2), (1, 2)]), (3, [(0, 2)]), (9, [(0, 2)])):
             self.assertEqual(self.check(World(working, [0], [2, pause], []), rule, 20).seen(), seen)
+
+    def test_a_rule_that_allows_at_some_readings_only(self):
+        working = Working(ALONE, [("act", 0, []), ("act", 0, [])])
+        for pauses, seen in (([0, 1], [(0, 1), (1, 3)]), ([2, 3], [(0, 3), (1, 5)]), ([None, 6], [(1, 7)])):
+            self.assertEqual(self.check(World(working, [4], pauses, []), OddReadings(), 20).seen(), seen)
 
     def test_letters_of_the_very_hour_are_known(self):
         table = Table(WORKING, [(2, [(1, 1)])])

@@ -99,6 +99,13 @@ class TestSurely(KnowingCase):
         self.check_age(ONE_WAY, 0, 9, 0, 4)
         self.check_age(ONE_WAY, 1, 9, 1, 3)
 
+    def test_no_reading_before_the_first_one(self):
+        for hours in (-10 ** 9, -9, -3, -2):
+            self.assertEqual(sure_from(EXAMPLE, 1, 0, hours), 0)
+            self.check_from(EXAMPLE, 1, 0, hours, 2 + hours)
+        self.assertEqual(sure_from(EXAMPLE, 1, 0, -1), 1)
+        self.assertEqual(sure_from(EXAMPLE, 0, 0, -9), 1)
+
     def test_the_first_seen_ancestor_of_several(self):
         working = Working(LINE, [("free", 0), ("ride", 1, 0, 2, 9), ("ride", 1, 1, 1, 3)])
         record = Record(working, [2, 3], seen=[(0, 0), (1, 2)], letters=[(0, 1, 0, 1), (0, 1, 1, 2)])

@@ -6,6 +6,7 @@ import unittest
 from helpers import (
     Case, acts_of, frozen, kept_demands, possible_records, random_rule, random_table, random_worlds, record_answers,
 )
+from surerails.blame import blamed, culprits, leaves
 from surerails.driving import drive
 from surerails.eves import eve_of
 from surerails.freest import Freest
@@ -158,6 +159,28 @@ class TestHonest(Case):
                 done += sum(bool(world.working.demands(event)) for event, _ in record.seen())
                 self.assertTrue(kept_demands(record, world.settings()))
         self.assertGreater(done, 60)
+
+
+class Mixed:
+    """A rule from elsewhere; point 45 asks of a rule nothing but its method allows."""
+
+    def allows(self, record, now, act):
+        return now >= 2 if act == 2 else now >= 3
+
+
+class TestRulesFromElsewhere(Case):
+
+    def test_they_are_asked_by_their_method_allows(self):
+        for now, allowed in ((2, False), (3, True)):
+            self.assertIs(Either(NEVER, Mixed()).allows(FREE, now, 1), allowed)
+            self.assertIs(Both(Mixed(), ALWAYS).allows(FREE, now, 1), allowed)
+            self.assertIs(Honest(Honest(Mixed())).allows(FREE, now, 1), allowed)
+
+    def test_what_they_say_of_a_record(self):
+        record = Record(WORKING, [4, -1], seen=[(0, 0), (1, 2), (2, 2)])
+        self.assertIs(Honest(Mixed()).allows(record, 4, 2), False)
+        self.assertEqual([blamed(record, Mixed()), culprits(record, Mixed())], [[1], [1]])
+        self.assertEqual([leaves(record, Mixed(), 0, reading) for reading in (1, 2, 3)], [[], [2], []])
 
 
 class TestErrors(Case):
