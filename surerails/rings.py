@@ -5,17 +5,7 @@ from surerails.workings import waits_of
 
 def find_ring(working):
     """Gives a ring of the working, or None if there is none."""
-    placed = waiting_order(working)
-    rest = [event for event in range(working.size) if event not in placed]
-    if not rest:
-        return None
-    path = [rest[0]]
-    while True:
-        # Each event of the rest waits for another one of the rest, so the path goes on until it meets itself.
-        follower = [other for other, _ in waits_of(working, path[-1]) if other in rest][0]
-        if follower in path:
-            return path[path.index(follower):]
-        path.append(follower)
+    return ring_in(_waits_by_event(working))
 
 
 def is_ring(working, events):
@@ -24,23 +14,43 @@ def is_ring(working, events):
         return False
     if not all([0 <= event < working.size for event in events]):
         return False
-    return all([
-        _waits_for(working, event, follower) for event, follower in zip(events, events[1:] + events[:1])
-    ])
+    links = _waits_by_event(working)
+    return all([follower in links[event] for event, follower in zip(events, events[1:] + events[:1])])
 
 
 def waiting_order(working):
     """Lists the events, each behind all for which it waits; what has a ring before it is left out."""
+    return order_of(_waits_by_event(working))
+
+
+def order_of(links):
+    """Lists the numbers, each behind all to which it is linked; what leads to a ring is left out."""
     placed = {}
     grown = True
     while grown:
         grown = False
-        for event in range(working.size):
-            if event not in placed and all([other in placed for other, _ in waits_of(working, event)]):
-                placed[event] = True
+        for number, others in enumerate(links):
+            if number not in placed and all([other in placed for other in others]):
+                placed[number] = True
                 grown = True
     return list(placed)
 
 
-def _waits_for(working, event, follower):
-    return follower in [other for other, _ in waits_of(working, event)]
+def ring_in(links):
+    """Gives a list in which each number is linked to the next one and the last to the first, or None."""
+    placed = order_of(links)
+    rest = [number for number in range(len(links)) if number not in placed]
+    if not rest:
+        return None
+    path = [rest[0]]
+    while True:
+        # Each number of the rest is linked to another one of the rest, so the path goes on until it meets itself.
+        follower = [other for other in links[path[-1]] if other in rest][0]
+        if follower in path:
+            return path[path.index(follower):]
+        path.append(follower)
+
+
+def _waits_by_event(working):
+    """Lists for each event those for which it waits."""
+    return [[other for other, _ in waits_of(working, event)] for event in range(working.size)]

@@ -345,6 +345,15 @@ def random_table(chance, working, *, longest=4):
     return Table(working, rows)
 
 
+def random_tables(chance, count, *, boxes=3, events=8, rings=True):
+    """Tables over lines and workings at random; without rings no act demands a later event."""
+    for _ in range(count):
+        line = random_line(chance, boxes=boxes, longest=3)
+        working = random_working(
+            chance, line, chance.randint(1, events), rings=rings, kinds=("free", "ride", "act", "act"))
+        yield random_table(chance, working)
+
+
 def random_rule(chance, working, depth):
     """A rule in which rules stand in one another, at most so deep."""
     kind = chance.choice([Freest, Table, Either, Both, Honest, Honest]) if depth else chance.choice([Freest, Table])

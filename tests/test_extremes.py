@@ -4,7 +4,7 @@ import itertools
 import random
 import unittest
 
-from helpers import Case, acts_of, frozen, random_line, random_table, random_working, table_answers
+from helpers import Case, acts_of, frozen, random_tables, table_answers
 from surerails.driving import drive
 from surerails.extremes import earliest_hours, extreme_hours
 from surerails.lags import lag
@@ -94,14 +94,6 @@ def world_of(table, hours, late):
         whims.append(whim)
     assert early == hours
     return World(working, [0] * working.line.size, whims, [[low] for _, _, low, _ in working.line.wires()])
-
-
-def random_tables(chance, count, *, boxes=3, events=8, rings=True):
-    for _ in range(count):
-        line = random_line(chance, boxes=boxes, longest=3)
-        working = random_working(
-            chance, line, chance.randint(1, events), rings=rings, kinds=("free", "ride", "act", "act"))
-        yield random_table(chance, working)
 
 
 class TestEarliest(Case):

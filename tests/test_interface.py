@@ -33,6 +33,13 @@ FUNCTIONS = {
     "blame": ["leaves(record, rule, box, reading)", "blamed(record, rule)", "culprits(record, rule)"],
     "driving": ["drive(world, rule, hours)"],
     "extremes": ["earliest_hours(table)", "extreme_hours(table, event)"],
+    "margins": ["margin(table, act, event)", "faults(table)", "is_safe_table(table)"],
+    "counters": ["counter_world(table, act, event)"],
+    "mending": ["least_waits(table)"],
+    "latest": ["latest_hours(table)", "broken_promises(table, promises)", "worst_world(working)"],
+    "through": ["deaf_demands(working)", "gets_through(working)", "stuck_world(working)"],
+    "wishes": ["quicken(line, wishes)", "quickened(line, highs)"],
+    "handing": ["refusal_with(record, act, boxes)", "fewest_books(record, act)"],
 }
 CLASSES = {
     "lines.Line": ["__init__(self, size, wires, *, bounds=())", "wires(self)", "bounds(self)",

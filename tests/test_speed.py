@@ -10,15 +10,20 @@ from surerails.books import book_of, books_together, closure_of, is_closed
 from surerails.bounds import bounds_of, broken_bounds, is_placing
 from surerails.combining import covers, cross_tables, merge_tables
 from surerails.continuing import continuation, is_other_run
+from surerails.counters import counter_world
 from surerails.cuts import Cut
 from surerails.driving import drive
 from surerails.eves import eve_of
 from surerails.extremes import earliest_hours, extreme_hours
 from surerails.freest import Freest, refusal
+from surerails.handing import fewest_books, refusal_with
 from surerails.hearing import heard_at, is_trail, letter_news, trail_of
 from surerails.knowing import is_certificate, sure_age, sure_from, surely
 from surerails.lags import lag, lag_way, round_trip
+from surerails.latest import broken_promises, latest_hours, worst_world
 from surerails.lines import Line
+from surerails.margins import faults, is_safe_table, margin
+from surerails.mending import least_waits
 from surerails.needs import hours_between, needed_demands, thinned
 from surerails.placings import earliest_placing, latest_placing, placing_with, ticks_left
 from surerails.plans import Plan
@@ -26,9 +31,11 @@ from surerails.records import Record
 from surerails.rings import find_ring, is_ring
 from surerails.rules import Both, Either, Honest
 from surerails.tables import Table, news_table
+from surerails.through import deaf_demands, gets_through, stuck_world
 from surerails.trains import Train
 from surerails.translation import working_of
 from surerails.ways import find_bad_ring, is_bad_ring, is_possible, widest
+from surerails.wishes import quicken, quickened
 from surerails.workings import Working, bounded_chain
 from surerails.worlds import World
 
@@ -264,6 +271,66 @@ class TestSpeed(Case):
                 self.quick(lambda: extreme_hours(table, event))
         riding = Table(riding_working(), [])
         self.quick(lambda: extreme_hours(riding, 59))
+
+    def test_margins_and_counter_worlds(self):
+        upward = full_working()
+        crowded = Table(upward, [(59, [((7 * k + 3 * j) % 59, 1 + k) for j in range(6)]) for k in range(120)])
+        early = Table(upward, [(act, [(act - k, 1) for k in range(1, 7)]) for act in range(10, 60)] * 2)
+        for table in (full_table(busy_world().working), news_table(upward), early, crowded):
+            self.quick(lambda: faults(table), lambda: is_safe_table(table), lambda: latest_hours(table))
+            self.quick(lambda: margin(table, 59, 49), lambda: margin(table, 59, 0))
+            for act, event in faults(table)[:3] + faults(table)[-3:]:
+                self.quick(lambda: counter_world(table, act, event))
+        self.assertGreater(len(faults(full_table(busy_world().working))), 40)
+
+    def test_mending(self):
+        upward = full_working()
+        early = [(act, [(event, 1) for event, _ in upward.demands(act)][:6]) for act in range(10, 60)]
+        early = [(act, needs + [(event, 1) for event in range(act - 4, act)]) for act, needs in early]
+        tables = [Table(upward, early), Table(upward, early * 2), news_table(upward), news_table(busy_world().working)]
+        for table in tables:
+            self.quick(lambda: least_waits(table))
+        self.assertGreater(sum(least_waits(tables[0])), 10)
+        self.assertIs(is_safe_table(tables[0].with_waits(least_waits(tables[0]))), True)
+        ringed = Table(upward, [(act, [(max(10, (act + 1) % 60), 1)]) for act in range(10, 60)])
+        with self.ends_within(SECONDS):
+            with self.assertRaises(ValueError):
+                least_waits(ringed)
+
+    def test_latest_hours_and_promises(self):
+        for table in (full_table(busy_world().working), news_table(full_working()), Table(riding_working(), [])):
+            promises = [(number % 60, number) for number in range(200)]
+            self.quick(lambda: latest_hours(table), lambda: broken_promises(table, promises))
+            for working in (table.working, full_working(upward=False)):
+                self.quick(lambda: worst_world(working), lambda: stuck_world(working))
+                self.quick(lambda: deaf_demands(working), lambda: gets_through(working))
+
+    def test_wishes(self):
+        slack = Line(6, [(box, box + 1, 1, 10 ** 6 + box) for box in range(5)] + [(box + 1, box, 1, 9) for box in range(5)])
+        wishes = [(box % 5, 5, 7 * 10 ** 5 + box) for box in range(100)] + [(5, box % 5, 43) for box in range(100)]
+        self.quick(lambda: quicken(slack, wishes), lambda: quickened(slack, quicken(slack, wishes)[1] * 40))
+        for hours in (4, 5, 10 ** 9):
+            with self.ends_within(SECONDS):
+                try:
+                    quicken(slack, [(box % 3, 3 + box % 3, hours) for box in range(200)])
+                except ValueError:
+                    self.assertLess(hours, 5)
+
+    def test_handing_over(self):
+        record = possible_record()
+        unseen = Record(record.working, record.heights(), seen=record.seen()[:-1], letters=record.letters())
+        self.quick(lambda: fewest_books(unseen, 59), lambda: refusal_with(unseen, 59, list(range(6)) * 33))
+        # Slow wires: many letters, and no box is sure of anything without the books of all others.
+        wires = [(a, b, 1, 10 ** 6) for a in range(6) for b in range(6) if a < b][:12]
+        line = Line(6, wires, bounds=[(a, b, 0) for a in range(6) for b in range(6) if a != b])
+        events = [("free", box) for box in range(6)] + [("act", 5, [(box, 1) for box in range(6)]), ("act", 5, [(8, 1)])]
+        working = Working(line, events + [("free", 0)] * 52)
+        letters = [(a, b, at, 80) for a, b, _, _ in wires for at in range(78, -1, -1)]
+        letters = [letter for letter in letters if letter[1] != 5][:1000]
+        crowd = Record(working, [80] * 6, seen=[(box, 79) for box in range(6)], letters=letters)
+        self.quick(lambda: fewest_books(crowd, 7), lambda: refusal_with(crowd, 7, [0, 1, 2, 3, 4]))
+        with self.ends_within(SECONDS):
+            self.assertEqual(fewest_books(crowd, 6), [0, 1, 2, 3, 4])
 
     def test_rules_and_blame(self):
         record = possible_record()
