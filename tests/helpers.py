@@ -9,9 +9,11 @@ from surerails import errors
 from surerails.bounds import bounds_of
 from surerails.freest import Freest
 from surerails.lines import Line
+from surerails.plans import Plan
 from surerails.records import Record
 from surerails.rules import Both, Either, Honest
 from surerails.tables import Table
+from surerails.trains import Train
 from surerails.workings import Working
 from surerails.worlds import World
 
@@ -209,6 +211,42 @@ def table_answers(table):
 
 def world_answers(world):
     return [working_answers(world.working), world.settings(), world.whims(), world.lates()]
+
+
+def desk_answers(desk):
+    """All that a desk tells; at the end the deeds that it could perform again, which it does and takes back."""
+    working = desk.working
+    verdicts = []
+    for act in acts_of(working):
+        open_now = desk.present(working.box_of(act)) >= 0
+        verdicts.append(desk.verdict(act) if open_now else "not open")
+    again = []
+    try:
+        while True:
+            again.append(desk.redo())
+    except errors.NothingToRedo:
+        pass
+    for _ in again:
+        desk.undo()
+    return [record_answers(desk.record()), desk.journal(), desk.may_act(), verdicts, again]
+
+
+def deeds_by_hour(chance, record, settings):
+    """Deeds for what happens in a record hour by hour, in each hour with the boxes and letters in any order."""
+    working = record.working
+    deeds = []
+    moments = [(settings[box] + at, box) for box in range(record.line.size) for at in range(record.height(box) + 1)]
+    chance.shuffle(moments)
+    for hour, box in sorted(moments, key=lambda moment: moment[0]):
+        at = hour - settings[box]
+        letters = [(source, sent) for source, target, sent, come in record.letters() if (target, come) == (box, at)]
+        now = [event for event, reading in record.seen() if (working.box_of(event), reading) == (box, at)]
+        events = [event for event in now if working.kind(event) != "act"]
+        chance.shuffle(letters)
+        chance.shuffle(events)
+        deeds.append(("tick", box, tuple(letters), tuple(events)))
+        deeds.extend(("act", event) for event in now if working.kind(event) == "act")
+    return deeds
 
 
 def random_line(chance, *, boxes=4, longest=4, tight=False):
@@ -415,6 +453,45 @@ def random_worlds(chance, count, *, boxes=3, events=9, rings=False):
         world = random_world(chance, working)
         if world is not None:
             yield world
+
+
+def random_plan(chance, *, most=5, hours=((2, 3),), away=((1, 1),)):
+    """A plan of some trains; the hours of their rides and their leaving are chosen from these."""
+    size = chance.randint(1, 4)
+    line = Line(size, [(p, p + 1, 1, 2) for p in range(size - 1)] + [(p + 1, p, 1, 2) for p in range(size - 1)])
+    rooms = [chance.randint(1, 3) for _ in range(size)]
+    trains = []
+    for _ in range(chance.randint(0, most)):
+        east = chance.random() < 0.5
+        start = chance.randrange(size)
+        count = chance.randint(1, size - start if east else start + 1)
+        boxes = [start + k if east else start - k for k in range(count)]
+        tracks = [chance.randrange(rooms[box]) for box in boxes]
+        rides = [chance.choice(hours) for _ in range(count - 1)]
+        dwell = chance.randint(1, 4)
+        trains.append(Train(start, tracks, rides, east=east, dwell=dwell, away=chance.choice(away)))
+    tracks = [[users(chance, trains, ("track", box, at)) for at in range(rooms[box])] for box in range(size)]
+    sections = [users(chance, trains, ("section", p)) for p in range(size - 1)]
+    return Plan(line, rooms, trains, tracks, sections, clearing=chance.randint(1, 3))
+
+
+def users(chance, trains, place):
+    """The trains that use the place, in any order."""
+    found = [number for number, train in enumerate(trains) if place in holds(train)]
+    chance.shuffle(found)
+    return found
+
+
+def holds(train):
+    """Point 17 to the letter: for each place of the train the numbers of the events that begin and end its hold."""
+    found = {}
+    last = train.stations - 1
+    for k, (box, number) in enumerate(zip(train.boxes(), train.tracks())):
+        begin = 0 if k == 0 else 2 * (k - 1) + 1
+        found["track", box, number] = (begin, 2 * last + 1 if k == last else 2 * k + 1)
+        if k < last:
+            found["section", min(box, train.boxes()[k + 1])] = (2 * k + 1, 2 * k + 2)
+    return found
 
 
 def kept_demands(record, settings):

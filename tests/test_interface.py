@@ -40,6 +40,12 @@ FUNCTIONS = {
     "through": ["deaf_demands(working)", "gets_through(working)", "stuck_world(working)"],
     "wishes": ["quicken(line, wishes)", "quickened(line, highs)"],
     "handing": ["refusal_with(record, act, boxes)", "fewest_books(record, act)"],
+    "tears": ["torn_book(record, box, place, hour, now)", "whole_at(record, box, place, hour)"],
+    "clashes": ["clash(plan, record)", "look(plan, record)"],
+    "writing": ["format_working(working)", "format_record(record)"],
+    "reading": ["parse_working(text)", "parse_record(text)"],
+    "deeds": ["format_deeds(deeds)", "parse_deeds(text)"],
+    "journals": ["replay(working, deeds)", "attempt(desk, deeds)", "deeds_of(record)"],
 }
 CLASSES = {
     "lines.Line": ["__init__(self, size, wires, *, bounds=())", "wires(self)", "bounds(self)",
@@ -63,6 +69,9 @@ CLASSES = {
     "rules.Either": ["__init__(self, first, second)", "allows(self, record, now, act)"],
     "rules.Both": ["__init__(self, first, second)", "allows(self, record, now, act)"],
     "rules.Honest": ["__init__(self, rule)", "allows(self, record, now, act)"],
+    "desk.Desk": ["__init__(self, working)", "record(self)", "present(self, box)", "verdict(self, act)",
+                  "may_act(self)", "tick(self, box, *, letters=(), events=())", "act(self, event)", "undo(self)",
+                  "redo(self)", "journal(self)"],
     "worlds.World": ["__init__(self, working, settings, whims, lates)", "settings(self)", "whims(self)",
                      "lates(self)"],
 }

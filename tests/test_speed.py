@@ -3,21 +3,27 @@
 import random
 import unittest
 
-from helpers import Case, line_answers, plan_answers, record_answers, table_answers, working_answers, world_answers
+from helpers import (
+    Case, desk_answers, line_answers, plan_answers, record_answers, table_answers, working_answers, world_answers,
+)
 from surerails.ages import age_span, hours_apart
 from surerails.blame import blamed, culprits, leaves
 from surerails.books import book_of, books_together, closure_of, is_closed
 from surerails.bounds import bounds_of, broken_bounds, is_placing
+from surerails.clashes import clash, look
 from surerails.combining import covers, cross_tables, merge_tables
 from surerails.continuing import continuation, is_other_run
 from surerails.counters import counter_world
 from surerails.cuts import Cut
+from surerails.deeds import format_deeds, parse_deeds
+from surerails.desk import Desk
 from surerails.driving import drive
 from surerails.eves import eve_of
 from surerails.extremes import earliest_hours, extreme_hours
 from surerails.freest import Freest, refusal
 from surerails.handing import fewest_books, refusal_with
 from surerails.hearing import heard_at, is_trail, letter_news, trail_of
+from surerails.journals import attempt, deeds_of, replay
 from surerails.knowing import is_certificate, sure_age, sure_from, surely
 from surerails.lags import lag, lag_way, round_trip
 from surerails.latest import broken_promises, latest_hours, worst_world
@@ -27,10 +33,12 @@ from surerails.mending import least_waits
 from surerails.needs import hours_between, needed_demands, thinned
 from surerails.placings import earliest_placing, latest_placing, placing_with, ticks_left
 from surerails.plans import Plan
+from surerails.reading import parse_record, parse_working
 from surerails.records import Record
 from surerails.rings import find_ring, is_ring
 from surerails.rules import Both, Either, Honest
 from surerails.tables import Table, news_table
+from surerails.tears import torn_book, whole_at
 from surerails.through import deaf_demands, gets_through, stuck_world
 from surerails.trains import Train
 from surerails.translation import working_of
@@ -38,6 +46,7 @@ from surerails.ways import find_bad_ring, is_bad_ring, is_possible, widest
 from surerails.wishes import quicken, quickened
 from surerails.workings import Working, bounded_chain
 from surerails.worlds import World
+from surerails.writing import format_record, format_working
 
 SECONDS = 3
 WIRES = [(k, (k + 1) % 6, 1, 2) for k in range(6)] + [((k + 1) % 6, k, 1, 3) for k in range(6)]
@@ -121,6 +130,22 @@ def four_deep(table):
 def possible_record():
     """The record of a drive: readings up to 79, and more than 900 letters."""
     return drive(busy_world(pauses=[0] * 60), Freest(), 80)
+
+
+def full_plan():
+    """Six trains over the whole line, all of them in the same order, three to each direction, on tracks of their own."""
+    rides = [(3, 9)] * 4
+    east = [Train(0, [k] * 5, rides) for k in range(3)]
+    west = [Train(4, [k] * 5, rides, east=False) for k in range(3, 6)]
+    orders = [[[k] for k in range(6)] for _ in range(5)]
+    return Plan(Line(6, WIRES), [6] * 6, east + west, orders + [[[]] * 6], [list(range(6))] * 4 + [[]])
+
+
+def all_at_once(working):
+    """A possible record in which all acts are done at once, and everything is under way."""
+    links = [working.cause(event) for event in range(working.size)]
+    world = World(working, [0] * 6, [0 if link is None else link[1] for link in links], [[1]] * 12)
+    return drive(world, Table(working, [(act, []) for act, link in enumerate(links) if link is None]), 80)
 
 
 class TestSpeed(Case):
@@ -331,6 +356,66 @@ class TestSpeed(Case):
         self.quick(lambda: fewest_books(crowd, 7), lambda: refusal_with(crowd, 7, [0, 1, 2, 3, 4]))
         with self.ends_within(SECONDS):
             self.assertEqual(fewest_books(crowd, 6), [0, 1, 2, 3, 4])
+
+    def test_torn_books(self):
+        for record in (possible_record(), true_record(), backward_record()):
+            for place, hour in ((-1, 0), (-1, 1), (-1, 40), (37, 78), (-1, 78)):
+                self.quick(lambda: torn_book(record, 3, place, hour, 78), lambda: whole_at(record, 3, place, hour))
+                self.quick(lambda: torn_book(record, 3, place, hour, hour))
+
+    def test_clashes(self):
+        plan = full_plan()
+        working = working_of(plan)
+        self.assertEqual(working.size, 60)
+        crowd, calm = all_at_once(working), drive(worst_world(working), Freest(), 80)
+        self.assertGreater(min(len(crowd.letters()), len(calm.letters())), 900)
+        for record in (crowd, calm):
+            self.quick(lambda: clash(plan, record), lambda: look(plan, record))
+        self.assertIsNotNone(clash(plan, crowd))
+        self.assertIsNone(clash(plan, calm))
+        self.quick(lambda: deeds_of(calm))
+
+    def test_texts(self):
+        record = possible_record()
+        text = format_record(record)
+        self.quick(lambda: format_record(record), lambda: format_working(record.working), lambda: parse_record(text))
+        crowded = format_record(Record(full_working(), [80] * 6, letters=true_record().letters()))
+        self.quick(lambda: parse_record(crowded), lambda: parse_working(format_working(full_working())))
+        for long in ("free 0\n" * 5700, "tick 0\n" * 5700, "0 " * 20000, "\n" * 40000, "9" * 40000, "act" + " 1" * 19990):
+            for parse in (parse_working, parse_record, parse_deeds):
+                for head in ("", "boxes 6\nevents 999\n", "tick 1\n"):
+                    with self.ends_within(SECONDS):
+                        try:
+                            parse(head + long)
+                        except ValueError:
+                            pass
+        self.quick(lambda: parse_deeds("tick 0\ncome 0 1\nsee 3\n" * 1700))
+        deeds = parse_deeds("tick 0\ncome 0 1\nsee 3\n" * 200)
+        self.quick(lambda: format_deeds(deeds))
+
+    def test_desks(self):
+        record = possible_record()
+        deeds = deeds_of(record)
+        self.quick(lambda: deeds_of(record))
+        desk = replay(record.working, deeds[:-200])
+        self.quick(lambda: replay(record.working, deeds[:200]), lambda: attempt(desk, deeds[-200:]))
+        self.assertEqual(len(desk.record().letters()), len(record.letters()))
+        before = len(desk.journal())
+        with self.ends_within(SECONDS):
+            with self.assertRaises(ValueError):
+                attempt(desk, [("tick", 0, (), ())] * 200)
+        self.assertEqual(len(desk.journal()), before)
+        self.quick(desk.may_act, lambda: desk.verdict(59), desk.journal, lambda: desk_answers(desk))
+        with self.ends_within(SECONDS):
+            for _ in range(200):
+                desk.undo()
+            for _ in range(200):
+                desk.redo()
+        free = Desk(Working(Line(6, [(0, 1, 1, None)]), [("free", 0)] * 60))
+        for _ in range(80):
+            free.tick(0)
+        letters = [(0, at) for at in range(80)]
+        self.quick(lambda: free.tick(1, letters=letters), lambda: free.tick(0, events=list(range(60))))
 
     def test_rules_and_blame(self):
         record = possible_record()

@@ -3,7 +3,7 @@
 import random
 import unittest
 
-from helpers import Case, frozen, plan_answers, working_answers
+from helpers import Case, frozen, holds, plan_answers, random_plan, working_answers
 from surerails.lines import Line
 from surerails.needs import needed_demands
 from surerails.plans import Plan
@@ -122,41 +122,6 @@ class TestAgainstThePoints(Case):
             for event in range(working.size):
                 self.assertEqual(working.demands(event), expected_demands(plan, event))
                 self.assertEqual(working.box_of(event), expected_box(plan, event))
-
-
-def random_plan(chance):
-    size = chance.randint(1, 4)
-    line = Line(size, [(p, p + 1, 1, 2) for p in range(size - 1)] + [(p + 1, p, 1, 2) for p in range(size - 1)])
-    rooms = [chance.randint(1, 3) for _ in range(size)]
-    trains = []
-    for _ in range(chance.randint(0, 5)):
-        east = chance.random() < 0.5
-        start = chance.randrange(size)
-        count = chance.randint(1, size - start if east else start + 1)
-        boxes = [start + k if east else start - k for k in range(count)]
-        tracks = [chance.randrange(rooms[box]) for box in boxes]
-        trains.append(Train(start, tracks, [(2, 3)] * (count - 1), east=east, dwell=chance.randint(1, 4)))
-    tracks = [[users(chance, trains, ("track", box, at)) for at in range(rooms[box])] for box in range(size)]
-    sections = [users(chance, trains, ("section", p)) for p in range(size - 1)]
-    return Plan(line, rooms, trains, tracks, sections, clearing=chance.randint(1, 3))
-
-
-def users(chance, trains, place):
-    found = [number for number, train in enumerate(trains) if place in holds(train)]
-    chance.shuffle(found)
-    return found
-
-
-def holds(train):
-    """Point 17 to the letter: for each place of the train the numbers of the events that begin and end its hold."""
-    found = {}
-    last = train.stations - 1
-    for k, (box, number) in enumerate(zip(train.boxes(), train.tracks())):
-        begin = 0 if k == 0 else 2 * (k - 1) + 1
-        found["track", box, number] = (begin, 2 * last + 1 if k == last else 2 * k + 1)
-        if k < last:
-            found["section", min(box, train.boxes()[k + 1])] = (2 * k + 1, 2 * k + 2)
-    return found
 
 
 def expected_demands(plan, event):
