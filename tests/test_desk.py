@@ -284,6 +284,14 @@ class TestAct(Case):
         self.refuses_as_impossible(wrong, lambda: desk.act(0))
         self.assertEqual(frozen(desk_answers(desk)), before)
 
+    def test_leave_is_ascending(self):
+        working = Working(Line(3, []), [("act", box, []) for box in (2, 0, 1, 0, 2)])
+        desk = opened(working, (2, 0))
+        self.assertEqual(desk.may_act(), [0, 1, 3, 4])
+        desk.tick(1)
+        desk.act(3)
+        self.assertEqual(desk.may_act(), [0, 1, 2, 4])
+
     def test_verdicts_and_leave(self):
         chance = random.Random(321)
         counts = [0, 0]
