@@ -269,7 +269,7 @@ class TestLook(Case):
             done += len(record.seen())
             self.assertEqual(look(plan, record), ("clear", []))
             self.assertIsNone(clash(plan, record))
-        self.assertGreater(done, 200)
+        self.assertGreater(done, 100)
 
 
 class TestCopies(Case):

@@ -130,7 +130,7 @@ class TestParse(Case):
                 self.assertEqual(format_deeds(parse_deeds(text)), text)
             else:
                 self.bad(text, number)
-        self.assertGreater(min(counts), 40)
+        self.assertGreater(min(counts), 20)
 
     def test_nothing_is_asked_about_values(self):
         self.assertEqual(parse_deeds("tick 9\nsee 3\nsee 3\nact 77\n"), [("tick", 9, (), (3, 3)), ("act", 77)])

@@ -443,7 +443,7 @@ class TestWhatAlwaysHolds(Case):
                 self.assertIs(is_possible(desk.record()), True)
                 self.assertEqual(blamed(desk.record(), Freest()), [])
             done += sum(world.working.kind(event) == "act" for event, _ in desk.record().seen())
-        self.assertGreater(done, 60)
+        self.assertGreater(done, 30)
         self.assertGreater(accepted, 400)
 
     def test_trains_never_clash(self):
@@ -461,7 +461,7 @@ class TestWhatAlwaysHolds(Case):
             begun += len(desk.record().seen())
             self.assertIsNone(clash(plan, desk.record()))
             self.assertEqual(look(plan, desk.record()), ("clear", []))
-        self.assertGreater(begun, 150)
+        self.assertGreater(begun, 80)
 
     def test_two_desks_with_the_same_record_tell_the_same(self):
         chance = random.Random(326)

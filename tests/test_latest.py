@@ -159,7 +159,7 @@ class TestLatestHours(Case):
                 else:
                     found += len(hours[event]) > 1
                     self.assertEqual(max(hours[event]), hour)
-        self.assertGreater(found, 20)
+        self.assertGreater(found, 8)
 
     def test_in_no_timely_world_an_event_is_later(self):
         chance = random.Random(232)
