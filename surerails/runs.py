@@ -45,29 +45,29 @@ def rows_by_event(table, late):
 
 def hours_with(rows, fixed):
     """Gives the least hour of each event that happens; the fixed events have hours of their own."""
-    followers = _followers(rows)
-    waiting = {event: (0, 0) for event, options in enumerate(rows) if [] in options}
+    numbered = [(event, row) for event, options in enumerate(rows) for row in options]
+    uses = _uses_by_event(len(rows), numbered)
+    missing = [len(row) for _, row in numbered]
+    waiting = {event: (0, 0) for event, row in numbered if not row}
     waiting.update(fixed)
     found = {}
     while waiting:
         # Whatever follows comes later, so the hour of the first one of them is final.
         first = min([(hour, event) for event, hour in waiting.items()])[1]
         found[first] = waiting.pop(first)
-        for follower in followers[first]:
-            if follower not in fixed and follower not in found:
-                least = hour_after(rows[follower], found, 0)
-                if least is not None:
-                    waiting[follower] = least
+        for number in uses[first]:
+            missing[number] -= 1
+            event, row = numbered[number]
+            if missing[number] == 0 and event not in fixed and event not in found:
+                least = _row_hour(row, found, 0)
+                waiting[event] = min(least, waiting.get(event, least))
     return found
 
 
 def hour_after(options, found, extra):
     """Gives the least hour at which an event can follow what is found, with extra hours more, or None."""
-    least = [
-        max([(0, 0)] + [(found[other][0], found[other][1] + hours + extra) for other, hours in row])
-        for row in options if all([other in found for other, _ in row])
-    ]
-    return min(least, default=None)
+    whole = [row for row in options if all([other in found for other, _ in row])]
+    return min([_row_hour(row, found, extra) for row in whole], default=None)
 
 
 def chain_hours(working, event):
@@ -95,10 +95,15 @@ def _fixed_rows(working, event, late):
     return [] if hours is None else [[(cause, hours)]]
 
 
-def _followers(rows):
-    """Lists for each event those that have it in a row."""
-    followers = [[] for _ in rows]
-    for event, options in enumerate(rows):
-        for other in sorted(set([other for row in options for other, _ in row])):
-            followers[other].append(event)
-    return followers
+def _row_hour(row, found, extra):
+    """Gives the least hour behind all others of a row, with extra hours more."""
+    return max([(0, 0)] + [(found[other][0], found[other][1] + hours + extra) for other, hours in row])
+
+
+def _uses_by_event(size, numbered):
+    """Lists for each event the numbers of the rows in which it stands."""
+    uses = [[] for _ in range(size)]
+    for number, (_, row) in enumerate(numbered):
+        for other, _ in row:
+            uses[other].append(number)
+    return uses
